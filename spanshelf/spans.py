@@ -1,0 +1,54 @@
+"""Spans: tuples (low, high) of two places, which hold the places from low to high - 1."""
+
+from spanshelf.errors import NoSpan
+
+LEAST_PLACE = -999999999999
+GREATEST_PLACE = 999999999999
+
+
+def is_whole(number):
+    # Python counts True and False among the integers, the line of places does not.
+    return isinstance(number, int) and not isinstance(number, bool)
+
+
+def is_place(number):
+    return is_whole(number) and LEAST_PLACE <= number <= GREATEST_PLACE
+
+
+def is_span(span):
+    if not isinstance(span, tuple) or len(span) != 2:
+        return False
+    low, high = span
+    return is_place(low) and is_place(high) and low < high
+
+
+def check_span(span):
+    # The message leaves the numbers out: Python refuses to write those of thousands of figures.
+    if not is_span(span):
+        raise NoSpan("a span is a tuple of two places of at most 12 figures, the low less than the high")
+
+
+def check_spans(spans):
+    for span in spans:
+        check_span(span)
+
+
+def length_of(span):
+    """Tell how many places the span holds."""
+    check_span(span)
+    low, high = span
+    return high - low
+
+
+def meet(one, other):
+    """Tell whether both spans hold one place."""
+    check_span(one)
+    check_span(other)
+    return one[0] < other[1] and other[0] < one[1]
+
+
+def lies_within(one, other):
+    """Tell whether the other span holds each place that the one holds."""
+    check_span(one)
+    check_span(other)
+    return other[0] <= one[0] and one[1] <= other[1]
