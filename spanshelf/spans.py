@@ -1,6 +1,6 @@
 """Spans: tuples (low, high) of two places, which hold the places from low to high - 1."""
 
-from spanshelf.errors import NoSpan
+from spanshelf.errors import NoPlace, NoSpan
 
 LEAST_PLACE = -999999999999
 GREATEST_PLACE = 999999999999
@@ -31,6 +31,22 @@ def check_span(span):
 def check_spans(spans):
     for span in spans:
         check_span(span)
+
+
+def check_place(place):
+    if not is_place(place):
+        raise NoPlace("a place is a whole number of at most 12 figures")
+
+
+def are_numbers(chosen, spans):
+    """Tell whether these are numbers of the spans, none twice."""
+    return all(0 <= number < len(spans) for number in chosen) and len(set(chosen)) == len(chosen)
+
+
+def all_apart(spans):
+    # In order, a span that meets any further one meets the next one too: neighbours are enough.
+    ordered = sorted(spans)
+    return all(ahead[1] <= behind[0] for ahead, behind in zip(ordered, ordered[1:]))
 
 
 def length_of(span):

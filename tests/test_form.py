@@ -1,6 +1,7 @@
 """The interface as the document lists it, and the rules of form that are easily looked at."""
 
 import ast
+import builtins
 import pathlib
 import re
 import unittest
@@ -17,7 +18,27 @@ INTERFACE = {
         "less": ["one", "other"],
         "held": ["cover"],
     },
+    "depths.py": {"depth_at": ["spans", "place"], "profile": ["spans"], "deepest": ["spans"]},
+    "apart.py": {"most_apart": ["spans"], "shows_apart": ["spans", "chosen", "pins"]},
+    "rows.py": {"rows_of": ["spans"], "shows_rows": ["spans", "rows", "place"]},
+    "heaviest.py": {
+        "heaviest": ["spans", "weights", "k"],
+        "shows_heaviest": ["spans", "weights", "k", "chosen", "prices"],
+    },
 }
+
+BUILTINS = set(
+    "len range enumerate zip min max sum abs sorted reversed int str bool bytes list tuple dict set frozenset isinstance"
+    " ord repr any all divmod iter next super property staticmethod classmethod object NotImplemented Exception ValueError"
+    " TypeError KeyError IndexError LookupError ZeroDivisionError ArithmeticError OverflowError RuntimeError"
+    " NotImplementedError AttributeError StopIteration".split()
+)
+
+METHODS = set(
+    "append clear copy count endswith extend find get index insert isalnum isalpha isdigit islower isspace isupper items"
+    " join keys ljust lower lstrip partition pop remove replace reverse rfind rjust rpartition rsplit rstrip setdefault"
+    " split splitlines startswith strip update upper values zfill bit_length add discard sort".split()
+)
 
 BARRED_WORDS = re.compile(
     r"\b(type|typing|typing_extensions|enum|Enum|IntEnum|StrEnum|Flag|IntFlag|Generic|Protocol|ABC|ABCMeta"
@@ -74,6 +95,38 @@ class FormTest(unittest.TestCase):
                 if isinstance(row, ast.ImportFrom):
                     self.assertEqual(row.level, 0, path)
                     self.assertTrue(row.module.startswith("spanshelf."), path)
+
+    def test_no_two_files_import_from_each_other(self):
+        above = {path.stem: {row.module.split(".")[1] for row in tree.body if isinstance(row, ast.ImportFrom)}
+                 for path, tree in trees()}
+        while above:
+            free = [name for name, needed in above.items() if not needed & set(above)]
+            self.assertTrue(free, above)
+            for name in free:
+                del above[name]
+
+    def test_no_name_has_the_name_of_a_builtin_or_of_an_import(self):
+        for path, tree in trees():
+            imported = {name.name for row in tree.body if isinstance(row, ast.ImportFrom) for name in row.names}
+            for row in ast.walk(tree):
+                own = []
+                if isinstance(row, ast.Name) and not isinstance(row.ctx, ast.Load):
+                    own = [row.id]
+                elif isinstance(row, ast.arg):
+                    own = [row.arg]
+                elif isinstance(row, ast.FunctionDef):
+                    own = [row.name]
+                for name in own:
+                    self.assertFalse(hasattr(builtins, name) or name in imported, (path, name))
+
+    def test_only_the_builtins_and_methods_of_the_rules(self):
+        own = {row.name for path, tree in trees() for row in ast.walk(tree) if isinstance(row, ast.FunctionDef)}
+        for path, tree in trees():
+            for row in ast.walk(tree):
+                if isinstance(row, ast.Name) and hasattr(builtins, row.id):
+                    self.assertIn(row.id, BUILTINS, path)
+                if isinstance(row, ast.Call) and isinstance(row.func, ast.Attribute):
+                    self.assertIn(row.func.attr, METHODS | own, path)
 
     def test_no_float_and_no_division_by_a_slash(self):
         for path, tree in trees():
