@@ -6,20 +6,11 @@ them up. How far such ways get when all lanes are there tells the prices.
 """
 
 from spanshelf.depths import count_at
-from spanshelf.errors import NoCount, NoWeight
-from spanshelf.spans import are_numbers, check_spans, is_whole
+from spanshelf.errors import NoCount
+from spanshelf.spans import are_numbers, check_spans, ends_of, is_whole
+from spanshelf.weights import check_weights, pay_of, pay_within, weight_of
 
-GREATEST_WEIGHT = 10 ** 9
 MOST_LANES = 20
-
-
-def is_weight(number):
-    return is_whole(number) and 0 <= number <= GREATEST_WEIGHT
-
-
-def check_weights(weights, spans):
-    if len(weights) != len(spans) or not all(is_weight(weight) for weight in weights):
-        raise NoWeight("weights are as many whole numbers from 0 to 10 ** 9 as there are spans")
 
 
 def check_lanes(k):
@@ -31,10 +22,6 @@ def check_asked(spans, weights, k):
     check_spans(spans)
     check_weights(weights, spans)
     check_lanes(k)
-
-
-def ends_of(spans):
-    return sorted({place for span in spans for place in span})
 
 
 def steps_between(ends, taken_spans, lanes):
@@ -94,9 +81,7 @@ def prices_of(gains):
     return [(here, gains[there] - gains[here]) for here, there in zip(ends, ends[1:]) if gains[there] > gains[here]]
 
 
-def heaviest(spans, weights, k):
-    """Tell a tuple of the heaviest choice for K, and prices of places that come to just its weight."""
-    check_asked(spans, weights, k)
+def best_choice(spans, weights, k):
     if not spans:
         return ([], [])
     taken = [False] * len(spans)
@@ -104,6 +89,12 @@ def heaviest(spans, weights, k):
         taken = with_one_more_lane(spans, weights, taken, lanes)
     gains, came = best_ways(spans, weights, taken, k)
     return ([number for number, is_taken in enumerate(taken) if is_taken], prices_of(gains))
+
+
+def heaviest(spans, weights, k):
+    """Tell a tuple of the heaviest choice for K, and prices of places that come to just its weight."""
+    check_asked(spans, weights, k)
+    return best_choice(spans, weights, k)
 
 
 def is_choice(spans, chosen, k):
@@ -114,16 +105,11 @@ def is_choice(spans, chosen, k):
     return all(count_at(picked, low) <= k for low, high in picked)
 
 
-def price_of(span, prices):
-    low, high = span
-    return sum(price for place, price in prices if low <= place < high)
-
-
 def bound_of(spans, weights, k, prices):
     """Tell what no choice for K outweighs: K times all prices, and what spans weigh more than theirs."""
-    bound = k * sum(price for place, price in prices)
+    bound = k * pay_of(prices)
     for span, weight in zip(spans, weights):
-        bound += max(0, weight - price_of(span, prices))
+        bound += max(0, weight - pay_within(span, prices))
     return bound
 
 
@@ -132,4 +118,4 @@ def shows_heaviest(spans, weights, k, chosen, prices):
     check_asked(spans, weights, k)
     if not is_choice(spans, chosen, k) or any(price < 0 for place, price in prices):
         return False
-    return sum(weights[number] for number in chosen) == bound_of(spans, weights, k, prices)
+    return weight_of(chosen, weights) == bound_of(spans, weights, k, prices)

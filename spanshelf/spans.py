@@ -43,6 +43,11 @@ def are_numbers(chosen, spans):
     return all(0 <= number < len(spans) for number in chosen) and len(set(chosen)) == len(chosen)
 
 
+def ends_of(spans):
+    """Tell all lows and highs of the spans, rising, each once."""
+    return sorted({place for span in spans for place in span})
+
+
 def all_apart(spans):
     # In order, a span that meets any further one meets the next one too: neighbours are enough.
     ordered = sorted(spans)

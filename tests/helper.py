@@ -27,6 +27,24 @@ NO_SPANS = [
 
 NO_PLACES = [GREATEST + 1, LEAST - 1, FAR, -FAR]
 
+HEAVIEST = 10 ** 9
+
+NO_WEIGHTS = [-1, HEAVIEST + 1, FAR, -FAR]
+
+NO_WEIGHTS_OF_TWO = [
+    [],
+    [1],
+    [1, 2, 3],
+    [1, -1],
+    [-1, 1],
+    [1, HEAVIEST + 1],
+    [HEAVIEST + 1, 1],
+    [FAR, 1],
+    [1, -FAR],
+    [-1, HEAVIEST + 1],
+    [1] * 60,
+]
+
 SIXTY_STAIRS = [(7 * k, 7 * k + 100) for k in range(60)]
 SIXTY_NESTED = [(k - 60, 60 - k) for k in range(60)]
 SIXTY_TOUCHING = [(k, k + 1) for k in range(60)][::-1]
@@ -88,6 +106,24 @@ def chance_lists(seed, many):
             (LEAST, GREATEST, 2 * GREATEST),
         ])
         yield [chance_span(chance, low, high, longest) for at in range(size)]
+
+
+def chance_weights(chance, many):
+    greatest = chance.choice([1, 3, 50, HEAVIEST])
+    return [chance.choice([0, greatest, chance.randint(0, greatest), chance.randint(0, greatest)]) for at in range(many)]
+
+
+def with_wrong_span(wrong):
+    """Give lists with a span that is none at each of their places."""
+    return [[wrong], [wrong, (0, 1)], [(0, 1), wrong, (2, 3)], [(0, 1), wrong]]
+
+
+def are_rising(row):
+    return all(ahead < behind for ahead, behind in zip(row, row[1:]))
+
+
+def are_numbers_of(chosen, spans):
+    return sorted(set(chosen)) == sorted(chosen) and set(chosen) <= set(range(len(spans)))
 
 
 def holds(span, place):

@@ -25,6 +25,21 @@ INTERFACE = {
         "heaviest": ["spans", "weights", "k"],
         "shows_heaviest": ["spans", "weights", "k", "chosen", "prices"],
     },
+    "covering.py": {
+        "cheapest": ["span", "spans", "costs"],
+        "shows_cheapest": ["span", "spans", "costs", "chosen", "rents"],
+    },
+    "giving.py": {
+        "giving": ["spans"],
+        "shows_giving": ["spans", "given", "windows"],
+        "heaviest_giving": ["spans", "weights"],
+    },
+    "nests.py": {
+        "nest": ["spans"],
+        "loose": ["spans"],
+        "shows_nest": ["spans", "told"],
+        "shows_loose": ["spans", "told"],
+    },
 }
 
 BUILTINS = set(

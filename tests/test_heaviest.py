@@ -8,15 +8,18 @@ from helper import (
     AskCase,
     FAR,
     GREATEST,
+    HEAVIEST,
     LEAST,
     LINE,
     NAMED_LISTS,
     NO_SPANS,
+    NO_WEIGHTS_OF_TWO,
     SIXTY_NESTED,
     SIXTY_OF_TWELVE_FIGURES,
     SIXTY_STAIRS,
     SIXTY_TOUCHING,
     chance_lists,
+    chance_weights,
     holds,
     slow_depth,
     small_lists,
@@ -27,23 +30,7 @@ from helper import (
 from spanshelf.errors import NoCount, NoSpan, NoWeight
 from spanshelf.heaviest import heaviest, shows_heaviest
 
-HEAVIEST = 10 ** 9
-
 NO_COUNTS = [0, -1, 21, 22, -20, FAR, -FAR, 10 ** 29]
-
-NO_WEIGHTS_OF_TWO = [
-    [],
-    [1],
-    [1, 2, 3],
-    [1, -1],
-    [-1, 1],
-    [1, HEAVIEST + 1],
-    [HEAVIEST + 1, 1],
-    [FAR, 1],
-    [1, -FAR],
-    [-1, HEAVIEST + 1],
-    [1] * 60,
-]
 
 
 def is_slow_choice(spans, chosen, k):
@@ -74,11 +61,6 @@ def slow_shows(spans, weights, k, chosen, prices):
 def slow_heaviest(spans, weights, k):
     return max(sum(weights[number] for number in chosen)
                for chosen in subsets(len(spans)) if is_slow_choice(spans, chosen, k))
-
-
-def chance_weights(chance, many):
-    greatest = chance.choice([1, 3, 50, HEAVIEST])
-    return [chance.choice([0, greatest, chance.randint(0, greatest), chance.randint(0, greatest)]) for at in range(many)]
 
 
 class HeaviestTest(AskCase):
