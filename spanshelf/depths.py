@@ -28,6 +28,14 @@ def layers_of(spans):
     return layers
 
 
+def deepest_layer(spans):
+    best = None
+    for low, high, depth in layers_of(spans):
+        if best is None or depth > best[0]:
+            best = (depth, low)
+    return best
+
+
 def depth_at(spans, place):
     """Tell how many of the spans hold the place."""
     check_spans(spans)
@@ -44,8 +52,4 @@ def profile(spans):
 def deepest(spans):
     """Tell a tuple of the greatest depth and the least place that has it, or None where there is no span."""
     check_spans(spans)
-    best = None
-    for low, high, depth in layers_of(spans):
-        if best is None or depth > best[0]:
-            best = (depth, low)
-    return best
+    return deepest_layer(spans)

@@ -1,6 +1,6 @@
 """Giving: places of their own for as many spans as can have one, or for the heaviest, and windows that ask too much."""
 
-from spanshelf.spans import LEAST_PLACE, all_apart, check_spans, ends_of, is_span
+from spanshelf.spans import LEAST_PLACE, all_apart, check_spans, ends_of, is_inside, is_span
 from spanshelf.weights import check_weights, weight_of
 
 
@@ -26,7 +26,7 @@ def as_giving(spans, given):
 def asks_too_much(window, spans):
     """Tell how many spans lie within the window, less its length."""
     low, high = window
-    return sum(1 for begin, end in spans if low <= begin and end <= high) - (high - low)
+    return sum(1 for span in spans if is_inside(span, window)) - (high - low)
 
 
 def greediest_windows(spans):
@@ -36,7 +36,8 @@ def greediest_windows(spans):
     came = [None] * len(ends)
     for there in range(1, len(ends)):
         most[there] = most[there - 1]
-        for here in range(there):
+        # A window that is as long as there are spans, or longer, does not ask too much.
+        for here in [at for at in range(there) if ends[there] - ends[at] < len(spans)]:
             asked = most[here] + asks_too_much((ends[here], ends[there]), spans)
             if asked > most[there]:
                 most[there] = asked

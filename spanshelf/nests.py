@@ -1,6 +1,6 @@
 """Nests: spans of which each is under the next one, levels for all spans, and loose ones, none under another."""
 
-from spanshelf.spans import are_numbers, check_spans
+from spanshelf.spans import are_numbers, check_spans, is_inside
 
 
 def is_under(spans, number, other):
@@ -8,7 +8,7 @@ def is_under(spans, number, other):
     outer = spans[other]
     if inner == outer:
         return number < other
-    return outer[0] <= inner[0] and inner[1] <= outer[1]
+    return is_inside(inner, outer)
 
 
 def levels_of(spans):

@@ -54,6 +54,14 @@ def all_apart(spans):
     return all(ahead[1] <= behind[0] for ahead, behind in zip(ordered, ordered[1:]))
 
 
+def share_a_place(one, other):
+    return one[0] < other[1] and other[0] < one[1]
+
+
+def is_inside(one, other):
+    return other[0] <= one[0] and one[1] <= other[1]
+
+
 def length_of(span):
     """Tell how many places the span holds."""
     check_span(span)
@@ -65,11 +73,11 @@ def meet(one, other):
     """Tell whether both spans hold one place."""
     check_span(one)
     check_span(other)
-    return one[0] < other[1] and other[0] < one[1]
+    return share_a_place(one, other)
 
 
 def lies_within(one, other):
     """Tell whether the other span holds each place that the one holds."""
     check_span(one)
     check_span(other)
-    return other[0] <= one[0] and one[1] <= other[1]
+    return is_inside(one, other)

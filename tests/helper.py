@@ -7,6 +7,11 @@ import random
 import signal
 import unittest
 
+from spanshelf.errors import NoDeed
+from spanshelf.shelf import Shelf
+from spanshelf.texts import show_shelf
+from spanshelf.two import clashes
+
 GREATEST = 10 ** 12 - 1
 LEAST = -GREATEST
 LINE = (LEAST, GREATEST)
@@ -68,6 +73,32 @@ NAMED_LISTS = {
     "sixty of twelve figures": SIXTY_OF_TWELVE_FIGURES,
     "sixty times the line": [LINE] * 60,
 }
+
+
+NO_NAMES = [
+    "",
+    "abcdefghi",
+    "a" * 60,
+    "A",
+    "aB",
+    "Ab",
+    " ",
+    "a b",
+    " a",
+    "a ",
+    "a1",
+    "1",
+    "a\n",
+    "\na",
+    "a\nb",
+    "\n",
+    "a-b",
+    "a.",
+    "`",
+    "{",
+    "~",
+    "a_b",
+]
 
 
 def spans_up_to(greatest):
@@ -164,6 +195,77 @@ def lists_within(told):
             yield from lists_within(one)
 
 
+def letters(number):
+    """Give a name for each number below 26 ** 2."""
+    return "abcdefghijklmnopqrstuvwxyz"[number // 26] + "abcdefghijklmnopqrstuvwxyz"[number % 26]
+
+
+def shelf_made_of(rows):
+    """Make a shelf anew of tuples (span, weight) by names."""
+    shelf = Shelf()
+    for name, (span, weight) in rows.items():
+        shelf.put(name, span, weight)
+    return shelf
+
+
+def shelf_of_spans(spans):
+    return shelf_made_of({letters(number): (span, number) for number, span in enumerate(spans)})
+
+
+def rows_on(shelf):
+    return {name: (shelf.span(name), shelf.weight(name)) for name in shelf.names()}
+
+
+def states_by(shelf, step):
+    """Tell what stands on a shelf behind each step that can still be done; a twin does them."""
+    twin = shelf.twin()
+    states = []
+    while True:
+        try:
+            getattr(twin, step)()
+        except NoDeed:
+            return states
+        states.append(rows_on(twin))
+
+
+def history_of(shelf):
+    """Tell what stands on a shelf, behind all deeds taken back, and behind all done again."""
+    return rows_on(shelf), states_by(shelf, "back"), states_by(shelf, "again")
+
+
+def seen_in(handed):
+    """Keep how things look that are handed in: shelves by their deeds, others by a copy."""
+    return [history_of(one) if isinstance(one, Shelf) else copy.deepcopy(one) for one in handed]
+
+
+def places_near(shelf):
+    ends = {end for name in shelf.names() for end in shelf.span(name)} | {0}
+    near = {end + step for end in ends for step in (-1, 0, 1)}
+    return sorted(place for place in near if LEAST <= place <= GREATEST)
+
+
+def answers_of(shelf):
+    """Ask a shelf whatever it can be asked, but of its deeds."""
+    near = places_near(shelf)[::3]
+    some = list(zip(near, near[2:])) + [LINE, (0, 1)]
+    return {
+        "rows": rows_on(shelf),
+        "names": shelf.names(),
+        "holders": [shelf.holders(place) for place in near],
+        "depth": [shelf.depth(place) for place in near],
+        "meeting": [shelf.meeting(span) for span in some],
+        "within": [shelf.within(span) for span in some],
+        "deepest": shelf.deepest(),
+        "profile": shelf.profile(),
+        "cover": shelf.cover(),
+        "room": [shelf.room(place, length) for place in near[::3] for length in (1, 2, 7, 10 ** 12)],
+        "apart": shelf.apart(),
+        "heaviest": [shelf.heaviest(k) for k in (1, 2, 20)],
+        "text": show_shelf(shelf),
+        "clashes": clashes(shelf, shelf),
+    }
+
+
 @contextlib.contextmanager
 def soon(seconds=20):
     """Fail where what is within has not come to an end in time: one that tries all would never do."""
@@ -180,11 +282,17 @@ def soon(seconds=20):
 
 class AskCase(unittest.TestCase):
     def assert_refused(self, kind, ask, *handed):
-        before = copy.deepcopy(handed)
+        before = seen_in(handed)
         with self.assertRaises(kind) as caught:
             ask(*handed)
         self.assertIs(caught.exception.__class__, kind)
-        self.assertEqual(handed, before)
+        self.assertEqual(seen_in(handed), before)
+
+    def assert_refused_by(self, shelf, kind, ask, *handed):
+        """Point 2: a refusal changes nothing, neither what stands on the shelf nor its deeds."""
+        before = history_of(shelf)
+        self.assert_refused(kind, ask, *handed)
+        self.assertEqual(history_of(shelf), before)
 
     def assert_truth(self, wanted, told, about=None):
         """Tell apart True and 1, False and None."""

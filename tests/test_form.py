@@ -40,6 +40,45 @@ INTERFACE = {
         "shows_nest": ["spans", "told"],
         "shows_loose": ["spans", "told"],
     },
+    "two.py": {"clashes": ["one", "other"], "shared": ["one", "other"], "spare": ["one", "other"]},
+    "texts.py": {
+        "show_span": ["span"],
+        "show_cover": ["cover"],
+        "show_shelf": ["shelf"],
+        "read_span": ["text"],
+        "read_cover": ["text"],
+        "read_shelf": ["text"],
+    },
+}
+
+CLASSES = {
+    "shelf.py": {
+        "Shelf": {
+            "put": ["name", "span", "weight"],
+            "out": ["name"],
+            "move": ["name", "by"],
+            "clip": ["name", "span"],
+            "weigh": ["name", "weight"],
+            "pour": ["shelf"],
+            "back": [],
+            "again": [],
+            "names": [],
+            "span": ["name"],
+            "weight": ["name"],
+            "holders": ["place"],
+            "meeting": ["span"],
+            "within": ["span"],
+            "depth": ["place"],
+            "deepest": [],
+            "profile": [],
+            "cover": [],
+            "room": ["place", "length"],
+            "apart": [],
+            "heaviest": ["k"],
+            "twin": [],
+        },
+    },
+    "desk.py": {"Desk": {"say": ["line"]}},
 }
 
 BUILTINS = set(
@@ -65,6 +104,10 @@ def files():
     return sorted(PACKAGE.rglob("*.py"))
 
 
+def arguments_of(rows):
+    return {row.name: [arg.arg for arg in row.args.args] for row in rows if isinstance(row, ast.FunctionDef)}
+
+
 def trees():
     return [(path, ast.parse(path.read_text(encoding="utf-8"))) for path in files()]
 
@@ -73,10 +116,19 @@ class InterfaceTest(unittest.TestCase):
     def test_each_function_is_defined_in_its_file_with_its_arguments(self):
         for name, functions in INTERFACE.items():
             tree = ast.parse((PACKAGE / name).read_text(encoding="utf-8"))
-            defined = {row.name: [arg.arg for arg in row.args.args]
-                       for row in tree.body if isinstance(row, ast.FunctionDef)}
+            defined = arguments_of(tree.body)
             for function, arguments in functions.items():
                 self.assertEqual(defined.get(function), arguments, function)
+
+    def test_each_class_is_defined_in_its_file_with_its_methods(self):
+        for name, classes in CLASSES.items():
+            tree = ast.parse((PACKAGE / name).read_text(encoding="utf-8"))
+            defined = {row.name: row for row in tree.body if isinstance(row, ast.ClassDef)}
+            for one, methods in classes.items():
+                found = arguments_of(defined[one].body)
+                self.assertEqual(found["__init__"], ["self"], one)
+                for method, arguments in methods.items():
+                    self.assertEqual(found.get(method), ["self"] + arguments, method)
 
 
 class FormTest(unittest.TestCase):
@@ -129,7 +181,7 @@ class FormTest(unittest.TestCase):
                     own = [row.id]
                 elif isinstance(row, ast.arg):
                     own = [row.arg]
-                elif isinstance(row, ast.FunctionDef):
+                elif isinstance(row, ast.FunctionDef) and row.name != "__init__":
                     own = [row.name]
                 for name in own:
                     self.assertFalse(hasattr(builtins, name) or name in imported, (path, name))
@@ -142,6 +194,30 @@ class FormTest(unittest.TestCase):
                     self.assertIn(row.id, BUILTINS, path)
                 if isinstance(row, ast.Call) and isinstance(row.func, ast.Attribute):
                     self.assertIn(row.func.attr, METHODS | own, path)
+
+    def test_no_name_is_a_method_of_one_class_and_an_attribute_of_another(self):
+        methods, assigned, read = set(), set(), set()
+        for path, tree in trees():
+            called = {id(row.func) for row in ast.walk(tree) if isinstance(row, ast.Call)}
+            for row in ast.walk(tree):
+                if isinstance(row, ast.ClassDef):
+                    methods |= set(arguments_of(row.body))
+                elif isinstance(row, ast.Attribute) and isinstance(row.ctx, ast.Store):
+                    assigned.add(row.attr)
+                elif isinstance(row, ast.Attribute) and id(row) not in called:
+                    read.add(row.attr)
+        self.assertEqual(methods & assigned, set())
+        self.assertEqual(read - assigned, set())
+
+    def test_what_stands_at_module_level_is_read_by_an_index_or_by_in_only(self):
+        for path, tree in trees():
+            tables = {row.targets[0].id for row in tree.body
+                      if isinstance(row, ast.Assign) and isinstance(row.value, (ast.List, ast.Dict))}
+            known = {id(row.value) for row in ast.walk(tree) if isinstance(row, ast.Subscript)}
+            known |= {id(one) for row in ast.walk(tree) if isinstance(row, ast.Compare) for one in row.comparators}
+            for row in ast.walk(tree):
+                if isinstance(row, ast.Name) and row.id in tables and isinstance(row.ctx, ast.Load):
+                    self.assertIn(id(row), known, (path, row.id))
 
     def test_no_float_and_no_division_by_a_slash(self):
         for path, tree in trees():
