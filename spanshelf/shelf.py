@@ -37,7 +37,8 @@ def row_of(shelf, name):
 
 
 def put_row(shelf, name, span, weight):
-    keep(shelf, {**kept_on(shelf), name: (span, weight)})
+    kept = kept_on(shelf)
+    keep(shelf, {**kept, name: (span, weight)})
 
 
 def check_free(kept, names):
